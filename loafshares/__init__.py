@@ -1,0 +1,1 @@
+"""Loaves told by shares of flour."""
