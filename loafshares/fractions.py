@@ -2,6 +2,8 @@
 
 from loafshares.errors import NoFraction
 
+NONE_OF_IT = (0, 1)
+ALL_OF_IT = (1, 1)
 LETTERS = "abcdefghijklmnopqrstuvwxyz"
 LONGEST_NAME = 10
 
@@ -61,6 +63,11 @@ def is_fraction(thing):
     if not is_whole(top) or not is_whole(bottom):
         return False
     return bottom > 0 and common(abs(top), bottom) == 1
+
+
+def is_above_0(thing):
+    """Whether a thing, whatever it is, is a fraction above 0."""
+    return is_fraction(thing) and thing[0] > 0
 
 
 def fraction_text(one):

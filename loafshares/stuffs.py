@@ -1,10 +1,8 @@
 """Stuffs: what one weight of a thing has of flour, water and salt, what it takes, what it costs."""
 
 from loafshares.errors import NoName, NoStuff
-from loafshares.fractions import is_fraction, is_less, is_name, plus
+from loafshares.fractions import ALL_OF_IT, NONE_OF_IT, is_fraction, is_less, is_name, plus
 
-NONE_OF_IT = (0, 1)
-ALL_OF_IT = (1, 1)
 WORDS = ("flour", "water", "salt", "thirst", "price")
 
 

@@ -18,11 +18,34 @@ BARRED_PARTS = ["dataclass", "overload", "contextmanager"]
 BARRED_NODES = (
     ast.Global, ast.AsyncFunctionDef, ast.AsyncFor, ast.AsyncWith, ast.Await, ast.Div, ast.MatMult, ast.Import,
 )
+METHODS = set("""append clear copy count endswith extend find get index insert isalnum isalpha isdigit islower isspace
+    isupper items join keys ljust lower lstrip partition pop remove replace reverse rfind rjust rpartition rsplit rstrip
+    setdefault split splitlines startswith strip update upper values zfill bit_length add discard""".split())
 DOUBLE = set("__init__ __eq__ __repr__ __str__ __len__ __enter__ __exit__ __call__ __iter__".split())
 
 
 def trees():
     return [(path.name, ast.parse(path.read_text())) for path in FILES]
+
+
+def source_of(module):
+    """The tree of a module that is imported by its full name."""
+    return ast.parse((PACKAGE / (module.partition(".")[2] + ".py")).read_text())
+
+
+def bound_in(function):
+    """The parameters and the names that are assigned in a function."""
+    found = [node.arg for node in ast.walk(function) if isinstance(node, ast.arg)]
+    return found + [node.id for node in ast.walk(function)
+                    if isinstance(node, ast.Name) and isinstance(node.ctx, ast.Store)]
+
+
+def own_methods():
+    return {row.name for _, node in nodes(ast.ClassDef) for row in node.body if isinstance(row, ast.FunctionDef)}
+
+
+def stored_attributes():
+    return {node.attr for _, node in nodes(ast.Attribute) if isinstance(node.ctx, ast.Store)}
 
 
 def nodes(*kinds):
@@ -63,11 +86,31 @@ class TestRows(unittest.TestCase):
         for name, node in nodes(ast.ImportFrom):
             self.assertEqual(node.level, 0, name)
             self.assertRegex(node.module, r"\Aloafshares\.[a-z_]+\Z", name)
-            source = ast.parse((PACKAGE / (node.module.partition(".")[2] + ".py")).read_text())
+            source = source_of(node.module)
             defined = [row.name for row in source.body if isinstance(row, (ast.FunctionDef, ast.ClassDef))]
             defined += [row.targets[0].id for row in source.body if isinstance(row, ast.Assign)]
             for alias in node.names:
                 self.assertIn(alias.name, defined, name)
+
+    def test_no_two_files_import_from_each_other(self):
+        waiting = {}
+        for path in FILES:
+            tree = ast.parse(path.read_text())
+            needed = {node.module for node in ast.walk(tree) if isinstance(node, ast.ImportFrom)}
+            waiting["loafshares." + path.stem] = needed
+        while waiting:
+            free = [name for name, needed in waiting.items() if not needed & set(waiting)]
+            self.assertNotEqual(free, [], sorted(waiting))
+            waiting = {name: needed for name, needed in waiting.items() if name not in free}
+
+    def test_no_generators(self):
+        found = nodes(ast.GeneratorExp, ast.Yield, ast.YieldFrom)
+        self.assertEqual([(name, node.lineno) for name, node in found], [])
+
+    def test_errors_are_made_where_they_are_raised(self):
+        for name, node in nodes(ast.Raise):
+            self.assertIsInstance(node.exc, ast.Call, f"{name}:{node.lineno}")
+            self.assertIsInstance(node.exc.func, ast.Name, f"{name}:{node.lineno}")
 
     def test_no_numbers_with_a_point(self):
         for name, node in nodes(ast.Constant):
@@ -105,9 +148,24 @@ class TestNames(unittest.TestCase):
                 self.assertRegex(name, r"\A[A-Za-z][A-Za-z0-9_]*\Z", file)
 
     def test_no_name_is_a_method_and_an_attribute(self):
-        methods = {row.name for _, node in nodes(ast.ClassDef) for row in node.body if isinstance(row, ast.FunctionDef)}
-        attributes = {node.attr for _, node in nodes(ast.Attribute) if isinstance(node.ctx, ast.Store)}
-        self.assertEqual(methods & attributes, set())
+        self.assertEqual(own_methods() & stored_attributes(), set())
+
+    def test_methods_and_attributes_that_there_are(self):
+        called = [(name, node.func) for name, node in nodes(ast.Call) if isinstance(node.func, ast.Attribute)]
+        for name, node in called:
+            self.assertIn(node.attr, METHODS | own_methods() | {"__init__"}, f"{name}:{node.lineno}")
+        read = {node.attr for _, node in nodes(ast.Attribute) if isinstance(node.ctx, ast.Load)}
+        self.assertEqual(read - {node.attr for _, node in called} - stored_attributes(), set())
+
+    def test_no_name_in_a_function_is_that_of_a_class_or_an_import_of_its_file(self):
+        for name, tree in trees():
+            taken = {row.name for row in tree.body if isinstance(row, ast.ClassDef)}
+            for row in tree.body:
+                if isinstance(row, ast.ImportFrom):
+                    taken |= {alias.asname or alias.name for alias in row.names}
+            for node in ast.walk(tree):
+                if isinstance(node, ast.FunctionDef):
+                    self.assertEqual(taken & set(bound_in(node)), set(), f"{name}:{node.name}")
 
 
 if __name__ == "__main__":
