@@ -1,6 +1,7 @@
 """Books: stuffs, and doughs that are made of them and of one another."""
 
 from loafshares.errors import NoName, Ring, Twice, Unknown
+from loafshares.fractions import is_one_of
 from loafshares.stuffs import Stuff
 
 
@@ -111,13 +112,13 @@ class Book:
 
     def stuff(self, name):
         """The stuff of this name."""
-        if not isinstance(name, str) or name not in self.own_stuffs:
+        if not is_one_of(name, self.own_stuffs):
             raise NoName(name)
         return self.own_stuffs[name]
 
     def dough(self, name):
         """The dough of this name."""
-        if not isinstance(name, str) or name not in self.own_doughs:
+        if not is_one_of(name, self.own_doughs):
             raise NoName(name)
         return self.own_doughs[name]
 

@@ -1,7 +1,7 @@
 """Doughs: how many parts of which things go into them, and how long they stand ahead."""
 
 from loafshares.errors import NoDough
-from loafshares.fractions import NONE_OF_IT, is_above_0, is_name, is_whole, plus
+from loafshares.fractions import is_above_0, is_name, is_whole, together
 
 MOST_ROWS = 8
 LONGEST_LEAD = 99
@@ -68,7 +68,4 @@ class Dough:
 
     def total(self):
         """All parts together."""
-        together = NONE_OF_IT
-        for thing, parts in self.own_rows:
-            together = plus(together, parts)
-        return together
+        return together([parts for thing, parts in self.own_rows])

@@ -50,6 +50,19 @@ def over(one, other):
     return fraction(one[0] * other[1], one[1] * other[0])
 
 
+def together(ones):
+    """All fractions of a list added up."""
+    told = NONE_OF_IT
+    for one in ones:
+        told = plus(told, one)
+    return told
+
+
+def add_to(sums, name, more):
+    """Add a fraction to that one which a dict has for a name, to 0 where it has none."""
+    sums[name] = plus(sums.get(name, NONE_OF_IT), more)
+
+
 def is_less(one, other):
     """Whether one is less than the other."""
     return one[0] * other[1] < other[0] * one[1]
@@ -83,3 +96,8 @@ def is_name(thing):
     if not isinstance(thing, str) or not 1 <= len(thing) <= LONGEST_NAME:
         return False
     return all([sign in LETTERS for sign in thing])
+
+
+def is_one_of(thing, names):
+    """Whether a thing, whatever it is, is one of the names."""
+    return isinstance(thing, str) and thing in names

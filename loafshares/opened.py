@@ -1,6 +1,6 @@
 """What doughs come to, stuff by stuff."""
 
-from loafshares.fractions import ALL_OF_IT, NONE_OF_IT, over, plus, times
+from loafshares.fractions import ALL_OF_IT, add_to, over, times, together
 
 
 def opened_by_rows(dough, inner):
@@ -11,7 +11,7 @@ def opened_by_rows(dough, inner):
         much = over(parts, total)
         contents = inner.get(thing, {thing: ALL_OF_IT})
         for stuff, share in contents.items():
-            told[stuff] = plus(told.get(stuff, NONE_OF_IT), times(much, share))
+            add_to(told, stuff, times(much, share))
     return told
 
 
@@ -25,7 +25,5 @@ def opened(book, dough):
 
 def measured(book, dough, word):
     """How much of a measure one weight of a dough has."""
-    told = NONE_OF_IT
-    for stuff, share in opened(book, dough).items():
-        told = plus(told, times(share, book.stuff(stuff).measure(word)))
-    return told
+    shares = opened(book, dough)
+    return together([times(share, book.stuff(stuff).measure(word)) for stuff, share in shares.items()])

@@ -2,7 +2,7 @@
 
 from loafshares.doughs import Dough
 from loafshares.errors import NoFeel, NoFlour, Uneven, Unknown
-from loafshares.fractions import ALL_OF_IT, NONE_OF_IT, over, plus, times
+from loafshares.fractions import ALL_OF_IT, NONE_OF_IT, over, times, together
 from loafshares.opened import measured, opened
 
 
@@ -49,9 +49,7 @@ def by_shares(book, name, rows, lead=0):
     for thing, share in made.rows():
         if thing not in book.stuffs() and thing not in book.doughs():
             raise Unknown(name, thing)
-    told = NONE_OF_IT
-    for thing, share in made.rows():
-        told = plus(told, times(share, flour_of_thing(book, thing)))
+    told = together([times(share, flour_of_thing(book, thing)) for thing, share in made.rows()])
     if told != ALL_OF_IT:
         raise Uneven(told)
     return made

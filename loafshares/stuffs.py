@@ -1,7 +1,7 @@
 """Stuffs: what one weight of a thing has of flour, water and salt, what it takes, what it costs."""
 
 from loafshares.errors import NoName, NoStuff
-from loafshares.fractions import ALL_OF_IT, NONE_OF_IT, is_fraction, is_less, is_name, plus
+from loafshares.fractions import ALL_OF_IT, NONE_OF_IT, is_fraction, is_less, is_name, is_one_of, together
 
 WORDS = ("flour", "water", "salt", "thirst", "price")
 
@@ -20,7 +20,7 @@ def is_measure(thing):
 
 def are_too_much(flour, water, salt):
     """Whether one weight cannot have these three measures together."""
-    return is_less(ALL_OF_IT, plus(plus(flour, water), salt))
+    return is_less(ALL_OF_IT, together([flour, water, salt]))
 
 
 def first_wrong(name, measures):
@@ -81,6 +81,6 @@ class Stuff:
 
     def measure(self, word):
         """The measure that a word names."""
-        if not isinstance(word, str) or word not in WORDS:
+        if not is_one_of(word, WORDS):
             raise NoName(word)
         return self.measures[WORDS.index(word)]
