@@ -68,6 +68,11 @@ def is_less(one, other):
     return one[0] * other[1] < other[0] * one[1]
 
 
+def floor_of(one):
+    """The greatest whole number not above a fraction."""
+    return one[0] // one[1]
+
+
 def is_fraction(thing):
     """Whether a thing, whatever it is, is a fraction."""
     if not isinstance(thing, tuple) or len(thing) != 2:

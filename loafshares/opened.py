@@ -27,3 +27,15 @@ def measured(book, dough, word):
     """How much of a measure one weight of a dough has."""
     shares = opened(book, dough)
     return together([times(share, book.stuff(stuff).measure(word)) for stuff, share in shares.items()])
+
+
+def measure_of_thing(book, thing, word):
+    """How much of a measure one weight of a stuff or a dough has."""
+    if thing in book.stuffs():
+        return book.stuff(thing).measure(word)
+    return measured(book, thing, word)
+
+
+def measure_of_rows(book, rows, word):
+    """How much of a measure the parts of rows have together."""
+    return together([times(parts, measure_of_thing(book, thing, word)) for thing, parts in rows])

@@ -1,7 +1,9 @@
 """Scales: weights rounded to steps, and papers that show that none are nearer."""
 
 from loafshares.errors import NoStep, NoWeights, TooLittle
-from loafshares.fractions import ALL_OF_IT, NONE_OF_IT, is_above_0, is_less, is_whole, minus, over, times, together
+from loafshares.fractions import (
+    ALL_OF_IT, NONE_OF_IT, floor_of, is_above_0, is_less, is_whole, minus, over, times, together,
+)
 
 MOST_WEIGHTS = 12
 
@@ -11,11 +13,6 @@ def are_weights(thing):
     if not isinstance(thing, (list, tuple)) or not 1 <= len(thing) <= MOST_WEIGHTS:
         return False
     return all([is_above_0(one) for one in thing])
-
-
-def floor_of(one):
-    """The greatest whole number not above a fraction."""
-    return one[0] // one[1]
 
 
 def above_floor(one):

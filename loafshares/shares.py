@@ -2,8 +2,8 @@
 
 from loafshares.doughs import Dough
 from loafshares.errors import NoFeel, NoFlour, Uneven, Unknown
-from loafshares.fractions import ALL_OF_IT, NONE_OF_IT, over, times, together
-from loafshares.opened import measured, opened
+from loafshares.fractions import ALL_OF_IT, NONE_OF_IT, over, times
+from loafshares.opened import measure_of_rows, measured, opened
 
 
 def flour_of(book, dough):
@@ -36,20 +36,13 @@ def feel(book, dough):
     return over(measured(book, dough, "water"), thirst)
 
 
-def flour_of_thing(book, thing):
-    """The flour of one weight of a stuff or a dough."""
-    if thing in book.stuffs():
-        return book.stuff(thing).flour()
-    return measured(book, thing, "flour")
-
-
 def by_shares(book, name, rows, lead=0):
     """The dough whose rows' shares are these rows."""
     made = Dough(name, rows, lead)
     for thing, share in made.rows():
         if thing not in book.stuffs() and thing not in book.doughs():
             raise Unknown(name, thing)
-    told = together([times(share, flour_of_thing(book, thing)) for thing, share in made.rows()])
+    told = measure_of_rows(book, made.rows(), "flour")
     if told != ALL_OF_IT:
         raise Uneven(told)
     return made

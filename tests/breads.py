@@ -14,6 +14,11 @@ def pair(number):
     return (Fraction(number).numerator, Fraction(number).denominator)
 
 
+def number(one):
+    """A fraction that the program tells as a number."""
+    return Fraction(*one)
+
+
 def stuffs():
     return [
         Stuff("wheat", flour=(1, 1), thirst=(3, 5), price=(2, 1)),

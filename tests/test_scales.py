@@ -6,7 +6,7 @@ import unittest
 from fractions import Fraction
 from random import Random
 
-from breads import pair, some_fraction
+from breads import number, pair, some_fraction
 from loafshares.errors import NoStep, NoWeights, TooLittle
 from loafshares.fractions import is_fraction, times
 from loafshares.scales import aims, paper, rounded, shows, worst_of
@@ -15,10 +15,6 @@ from things import Alike, Odd, odd_things
 NONES = [(0, 1), (-1, 1), (2, 4), (0, 2), (1, 0), (1, -1), (True, 1), (1, True), [1, 1], (1,), None, 1, True, "1", ""]
 # 1, 2 and 3 make 6, so that steps of 1 fit them just so, and steps of 4 leave 2
 THREE = [(1, 1), (2, 1), (3, 1)]
-
-
-def number(one):
-    return Fraction(*one)
 
 
 def some_scales():

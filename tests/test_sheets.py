@@ -2,10 +2,9 @@
 
 import inspect
 import unittest
-from fractions import Fraction
 from random import Random
 
-from breads import book, other_book, pair, reckoned, some_books, some_fraction
+from breads import book, number, other_book, pair, reckoned, some_books, some_fraction
 from loafshares.books import Book
 from loafshares.doughs import Dough
 from loafshares.errors import NoWeight
@@ -27,10 +26,6 @@ LOAF = [
     ("sponge", (6, 1), [("wheat", (3, 1)), ("sour", (3, 4)), ("water", (9, 4))]),
     ("loaf", (117, 5), [("wheat", (12, 1)), ("sponge", (6, 1)), ("water", (4, 1)), ("salt", (2, 5)), ("sour", (1, 1))]),
 ]
-
-
-def number(one):
-    return Fraction(*one)
 
 
 class TestSheet(unittest.TestCase):

@@ -3,10 +3,9 @@
 import inspect
 import itertools
 import unittest
-from fractions import Fraction
 from random import Random
 
-from breads import book, other_book, pair, reckoned, some_books, some_fraction
+from breads import book, number, other_book, pair, reckoned, some_books, some_fraction
 from loafshares.books import Book
 from loafshares.doughs import Dough
 from loafshares.errors import NoDough, NoTaken, NoWhole, Short
@@ -19,10 +18,6 @@ from things import Alike, odd_things
 
 WHOLE = {"wheat": (10, 1), "water": (8, 1), "rye": (1, 1), "salt": (1, 4)}
 NONES = [(0, 1), (-1, 1), (2, 4), (0, 2), (1, 0), (1, -1), (True, 1), (1, True), [1, 1], (1,), None, 1, True, "1", ""]
-
-
-def number(one):
-    return Fraction(*one)
 
 
 def wide_book():
