@@ -91,7 +91,8 @@ class Bench:
         """The most loaves that can be ordered besides, and at which hour which stuff lacks with one more."""
         refuse_no_loaf(self.own_book, dough, pan)
         refuse_late(self.own_book, dough, hour)
-        if len(self.lacking()) > 0:
+        used = self.plan()[1]
+        if len(all_lacking(used, self.brought)) > 0:
             raise Lacking("something lacks already")
         loaf = mixed_and_used(self.own_book, [(hour, dough, pan.holds())])[1]
-        return most_loaves(self.plan()[1], self.brought, loaf)
+        return most_loaves(used, self.brought, loaf)

@@ -113,6 +113,20 @@ class TestRows(unittest.TestCase):
             self.assertIsInstance(node.exc, ast.Call, f"{name}:{node.lineno}")
             self.assertIsInstance(node.exc.func, ast.Name, f"{name}:{node.lineno}")
 
+    def test_plain_arguments_beside_a_star(self):
+        for name, node in nodes(ast.Call):
+            stars = [given for given in node.args if isinstance(given, ast.Starred)]
+            doubles = [given for given in node.keywords if given.arg is None]
+            given = [one.value if isinstance(one, (ast.Starred, ast.keyword)) else one for one in [*node.args, *node.keywords]]
+            for one in given if stars or doubles else []:
+                self.assertIsInstance(one, (ast.Name, ast.Constant), f"{name}:{node.lineno}")
+            if doubles:
+                self.assertEqual(len(node.keywords), 1, f"{name}:{node.lineno}")
+
+    def test_no_error_of_pythons_own_is_caught(self):
+        for name, node in nodes(ast.ExceptHandler):
+            self.assertIn(node.type.id, ["KeyError", "ZeroDivisionError", "LoafError"], f"{name}:{node.lineno}")
+
     def test_no_numbers_with_a_point(self):
         for name, node in nodes(ast.Constant):
             self.assertNotIsInstance(node.value, (float, complex), f"{name}:{node.lineno}")
